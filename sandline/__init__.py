@@ -1,0 +1,1 @@
+"""Sandline: closed lines round dots, turned back at mirrors."""

@@ -1,0 +1,58 @@
+"""The plainest rules of the language that the package keeps to; what needs judgement is not looked at here."""
+
+import ast
+import pathlib
+import re
+import unittest
+
+FOLDER = pathlib.Path(__file__).resolve().parent.parent / "sandline"
+BARRED_NODES = (
+    ast.With, ast.Match, ast.Delete, ast.Global, ast.Nonlocal, ast.Assert, ast.Yield, ast.YieldFrom, ast.AsyncFunctionDef,
+    ast.Await, ast.SetComp, ast.DictComp, ast.GeneratorExp, ast.NamedExpr, ast.Starred, ast.Div, ast.Import,
+)
+BARRED_WORDS = (
+    "type", "typing", "typing_extensions", "enum", "Enum", "IntEnum", "StrEnum", "Flag", "IntFlag", "Generic",
+    "Protocol", "ABC", "ABCMeta", "namedtuple", "NamedTuple", "TypedDict", "TYPE_CHECKING", "abstractmethod",
+)
+
+
+def sources():
+    for path in sorted(FOLDER.glob("*.py")):
+        yield path.name, path.read_text(encoding="utf-8")
+
+
+class Form(unittest.TestCase):
+    def test_nothing_but_plain_files(self):
+        for path in FOLDER.iterdir():
+            if path.name != "__pycache__":
+                self.assertRegex(path.name, r"\A(__init__|__main__|[a-z][a-z0-9_]*)\.py\Z")
+
+    def test_signs_and_lengths(self):
+        for name, text in sources():
+            with self.subTest(name=name):
+                self.assertRegex(text, r"\A[ -~\n]*\Z")
+                self.assertLessEqual(len(text.splitlines()), 400)
+                self.assertLessEqual(max(len(row) for row in text.splitlines()), 120)
+
+    def test_words(self):
+        for name, text in sources():
+            with self.subTest(name=name):
+                self.assertEqual(set(re.findall(r"\w+", text)) & set(BARRED_WORDS), set())
+
+    def test_statements(self):
+        for name, text in sources():
+            for node in ast.walk(ast.parse(text)):
+                with self.subTest(name=name, row=getattr(node, "lineno", 0)):
+                    self.assertNotIsInstance(node, BARRED_NODES)
+                    if isinstance(node, ast.ImportFrom):
+                        self.assertTrue(node.module.startswith("sandline."))
+                    if isinstance(node, (ast.FunctionDef, ast.ClassDef)):
+                        self.assertEqual(node.decorator_list, [])
+                    if isinstance(node, ast.FunctionDef):
+                        self.assertLessEqual(node.end_lineno - node.lineno + 1, 40)
+                    if isinstance(node, ast.Constant):
+                        self.assertNotIsInstance(node.value, (float, bytes))
+
+
+if __name__ == "__main__":
+    unittest.main()
