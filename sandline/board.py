@@ -55,3 +55,10 @@ class Board:
     def demand(self, door):
         if door not in self.signs:
             raise NoDoor("the board has no such door")
+
+
+def with_signs(wide, high, placed):
+    board = Board(wide, high)
+    for door, sign in placed:
+        board = board.changed(door, sign)
+    return board

@@ -62,5 +62,25 @@ def neighbour(quarter, level):
     row = quarter[1]
     corner = quarter[2]
     if level:
-        return (column + 1 if corner in (1, 2) else column - 1, row)
-    return (column, row + 1 if corner in (2, 3) else row - 1)
+        return (column + 1 if is_east(corner) else column - 1, row)
+    return (column, row + 1 if is_south(corner) else row - 1)
+
+
+def is_east(corner):
+    return corner in (1, 2)
+
+
+def is_south(corner):
+    return corner in (2, 3)
+
+
+def met_at(door):
+    column = door[1]
+    row = door[2]
+    if door[0] == "row":
+        return [(column, row, 1), (column, row, 2), (column + 1, row, 0), (column + 1, row, 3)]
+    return [(column, row, 3), (column, row, 2), (column, row + 1, 0), (column, row + 1, 1)]
+
+
+def sign_that_turns(corner, other):
+    return [sign for sign in TURNS if TURNS[sign][corner] == other][0]

@@ -2,14 +2,10 @@ import unittest
 
 from sandline.board import Board
 from sandline.errors import NoBoard, NoDoor, NoSign
+from tests.boards import SIGNS, signs_of
 
-SIGNS = (".", "|", "-")
 # Longer than the digits that Python writes as a text.
 HUGE = 10 ** 5000
-
-
-def signs_of(board):
-    return [(door, board.sign(door)) for door in board.doors()]
 
 
 class Sizes(unittest.TestCase):

@@ -1,6 +1,7 @@
 """The plainest rules of the language that the package keeps to; what needs judgement is not looked at here."""
 
 import ast
+import builtins
 import pathlib
 import re
 import unittest
@@ -13,6 +14,16 @@ BARRED_NODES = (
 BARRED_WORDS = (
     "type", "typing", "typing_extensions", "enum", "Enum", "IntEnum", "StrEnum", "Flag", "IntFlag", "Generic",
     "Protocol", "ABC", "ABCMeta", "namedtuple", "NamedTuple", "TypedDict", "TYPE_CHECKING", "abstractmethod",
+)
+OWN_NAMES_OF_PYTHON = (
+    "len", "range", "enumerate", "zip", "min", "max", "sum", "abs", "sorted", "reversed", "int", "str", "bool", "list",
+    "tuple", "dict", "set", "isinstance", "ord", "repr", "any", "all", "divmod", "ValueError", "KeyError", "IndexError",
+)
+OWN_METHODS_OF_PYTHON = (
+    "append", "clear", "copy", "count", "endswith", "extend", "find", "get", "index", "insert", "isalnum", "isalpha",
+    "isdigit", "islower", "isspace", "isupper", "items", "join", "keys", "ljust", "lower", "lstrip", "partition", "pop",
+    "remove", "replace", "reverse", "rfind", "rjust", "rpartition", "rsplit", "rstrip", "setdefault", "split",
+    "splitlines", "startswith", "strip", "update", "upper", "values", "zfill", "bit_length",
 )
 
 
@@ -52,6 +63,40 @@ class Form(unittest.TestCase):
                         self.assertLessEqual(node.end_lineno - node.lineno + 1, 40)
                     if isinstance(node, ast.Constant):
                         self.assertNotIsInstance(node.value, (float, bytes))
+                        self.assertNotIn("%", str(node.value))
+
+    def test_names(self):
+        for name, text in sources():
+            for node in ast.walk(ast.parse(text)):
+                if isinstance(node, ast.Name):
+                    with self.subTest(name=name, row=node.lineno):
+                        self.assertRegex(node.id, r"\A[A-Za-z][A-Za-z0-9_]*\Z")
+                        if node.id in dir(builtins):
+                            self.assertIn(node.id, OWN_NAMES_OF_PYTHON)
+                            self.assertIsInstance(node.ctx, ast.Load)
+
+    def test_methods(self):
+        trees = {name: ast.parse(text) for name, text in sources()}
+        own = [
+            part.name for tree in trees.values() for node in tree.body if isinstance(node, ast.ClassDef)
+            for part in node.body if isinstance(part, ast.FunctionDef)
+        ]
+        for name, tree in trees.items():
+            for node in ast.walk(tree):
+                if isinstance(node, ast.Call) and isinstance(node.func, ast.Attribute):
+                    with self.subTest(name=name, row=node.lineno):
+                        self.assertIn(node.func.attr, own + list(OWN_METHODS_OF_PYTHON))
+
+    def test_no_two_files_draw_from_one_another(self):
+        drawn = {}
+        for name, text in sources():
+            found = [node for node in ast.walk(ast.parse(text)) if isinstance(node, ast.ImportFrom)]
+            drawn[name] = {node.module.removeprefix("sandline.") + ".py" for node in found}
+        while drawn:
+            free = [name for name in drawn if not drawn[name] & set(drawn)]
+            self.assertNotEqual(free, [], drawn)
+            for name in free:
+                drawn.pop(name)
 
 
 if __name__ == "__main__":

@@ -2,8 +2,8 @@ import unittest
 
 from sandline.board import Board
 from sandline.walking import led, lines
+from tests.boards import SIGNS, mixed, order, quarters, signs_of, some_boards
 
-SIGNS = (".", "|", "-")
 # Point 6 word for word: the west dot is W, the east one E, the north one N, the south one S.
 ROW_PAIRS = {
     ".": (("W", 1, "E", 3), ("W", 2, "E", 0)),
@@ -15,39 +15,6 @@ COLUMN_PAIRS = {
     "-": (("N", 3, "N", 2), ("S", 0, "S", 1)),
     "|": (("N", 3, "S", 0), ("N", 2, "S", 1)),
 }
-SIZES = ((1, 1), (2, 1), (1, 2), (4, 1), (1, 4), (2, 2), (3, 2), (2, 3), (4, 4), (12, 3), (3, 12), (6, 6))
-
-
-def mixed(wide, high, step):
-    board = Board(wide, high)
-    for place, door in enumerate(board.doors()):
-        board = board.changed(door, SIGNS[(place * place + step * place + step) % 3])
-    return board
-
-
-def some_boards():
-    for wide, high in SIZES:
-        yield Board(wide, high)
-        for step in range(3):
-            yield mixed(wide, high, step)
-        for sign in ("|", "-"):
-            board = Board(wide, high)
-            for door in board.doors():
-                board = board.changed(door, sign)
-            yield board
-
-
-def order(quarter):
-    return (quarter[1], quarter[0], quarter[2])
-
-
-def quarters(board):
-    found = [(c, r, k) for c in range(board.wide) for r in range(board.high) for k in range(4)]
-    return sorted(found, key=order)
-
-
-def signs_of(board):
-    return [(door, board.sign(door)) for door in board.doors()]
 
 
 class Led(unittest.TestCase):
