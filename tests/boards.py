@@ -72,6 +72,14 @@ def every_board(wide, high):
         yield signed(wide, high, signs)
 
 
+def all_boards():
+    yield from some_boards()
+    for wide, high in ((2, 1), (1, 2), (2, 2), (3, 2), (2, 3)):
+        yield from every_board(wide, high)
+    for wide, high in ((4, 4), (12, 3), (3, 12), (9, 4), (7, 5)):
+        yield from one_mirror(wide, high)
+
+
 def order(quarter):
     return (quarter[1], quarter[0], quarter[2])
 

@@ -4,7 +4,7 @@ from sandline.board import Board
 from sandline.drawing import read, rebuilt, shown
 from sandline.errors import NoBoard, NoDrawing
 from sandline.walking import lines
-from tests.boards import SIGNS, SIZES, every_board, looks, mixed, one_mirror, signs_of, some_boards
+from tests.boards import SIGNS, SIZES, all_boards, looks, mixed, signs_of
 
 # All the signs of which a text to be read may be made.
 TEXT_SIGNS = ["\t", "\n"] + [chr(code) for code in range(ord(" "), ord("~") + 1) if chr(code) != "%"]
@@ -41,7 +41,7 @@ class Shown(unittest.TestCase):
         self.assertEqual(shown(board.changed(("column", 0, 0), "-")), "o|o.o\n-+.+|\no.o-o")
 
     def test_line_by_line(self):
-        for board in some_boards():
+        for board in all_boards():
             before = looks(board)
             with self.subTest(board=before):
                 text = shown(board)
@@ -50,11 +50,6 @@ class Shown(unittest.TestCase):
                 self.assertEqual(len(text.split("\n")), 2 * board.high - 1)
                 self.assertEqual({len(row) for row in text.split("\n")}, {2 * board.wide - 1})
                 self.assertEqual(looks(board), before)
-
-    def test_one_mirror_at_each_door(self):
-        for wide, high in ((3, 3), (12, 3), (3, 12), (9, 4), (7, 5)):
-            for board in one_mirror(wide, high):
-                self.assertEqual(shown(board), drawn(board))
 
 
 class Read(unittest.TestCase):
@@ -72,16 +67,12 @@ class Read(unittest.TestCase):
         ]))
 
     def test_the_drawing_of_each_board(self):
-        for board in some_boards():
+        for board in all_boards():
             with self.subTest(board=looks(board)):
                 told = read(drawn(board))
                 self.assertIs(type(told), Board)
                 self.assertEqual(looks(told), looks(board))
-
-    def test_the_drawing_of_every_small_board(self):
-        for wide, high in ((2, 1), (1, 2), (2, 2), (3, 2), (2, 3)):
-            for board in every_board(wide, high):
-                self.assertEqual(looks(read(shown(board))), looks(board))
+                self.assertEqual(shown(told), drawn(board))
 
     def test_every_size_within_the_bounds_and_no_other(self):
         for wide in range(1, 15):
@@ -195,18 +186,8 @@ class Rebuilt(unittest.TestCase):
             self.assertEqual(lines(told), before)
 
     def test_many_boards(self):
-        for board in some_boards():
+        for board in all_boards():
             self.check(board)
-
-    def test_every_small_board(self):
-        for wide, high in ((1, 1), (2, 1), (1, 2), (4, 1), (1, 4), (2, 2), (3, 2), (2, 3)):
-            for board in every_board(wide, high):
-                self.check(board)
-
-    def test_one_mirror_at_each_door(self):
-        for wide, high in ((4, 4), (12, 3), (3, 12), (9, 4), (7, 5)):
-            for board in one_mirror(wide, high):
-                self.check(board)
 
     def test_written_out(self):
         wall = [[(0, 0, 0), (0, 0, 3), (0, 0, 2), (0, 0, 1)], [(1, 0, 0), (1, 0, 3), (1, 0, 2), (1, 0, 1)]]

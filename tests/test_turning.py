@@ -3,7 +3,7 @@ import unittest
 from sandline.board import Board
 from sandline.turning import flipped, turned
 from sandline.walking import lines
-from tests.boards import every_board, looks, one_mirror, signs_of, some_boards
+from tests.boards import all_boards, looks, signs_of
 
 TURNED_SIGNS = {".": ".", "|": "-", "-": "|"}
 
@@ -44,18 +44,8 @@ class Turned(unittest.TestCase):
             self.assertEqual(looks(board), before)
 
     def test_many_boards(self):
-        for board in some_boards():
+        for board in all_boards():
             self.check(board)
-
-    def test_every_small_board(self):
-        for wide, high in ((2, 1), (1, 2), (2, 2), (3, 2)):
-            for board in every_board(wide, high):
-                self.check(board)
-
-    def test_one_mirror_at_each_door(self):
-        for wide, high in ((3, 3), (12, 3), (3, 12), (9, 4), (7, 5)):
-            for board in one_mirror(wide, high):
-                self.check(board)
 
     def test_written_out(self):
         board = Board(3, 2).changed(("row", 0, 0), "|").changed(("column", 2, 0), "|").changed(("row", 1, 1), "-")
@@ -89,18 +79,8 @@ class Flipped(unittest.TestCase):
             self.assertEqual(looks(board), before)
 
     def test_many_boards(self):
-        for board in some_boards():
+        for board in all_boards():
             self.check(board)
-
-    def test_every_small_board(self):
-        for wide, high in ((2, 1), (1, 2), (2, 2), (3, 2)):
-            for board in every_board(wide, high):
-                self.check(board)
-
-    def test_one_mirror_at_each_door(self):
-        for wide, high in ((3, 3), (12, 3), (3, 12), (9, 4), (7, 5)):
-            for board in one_mirror(wide, high):
-                self.check(board)
 
     def test_written_out(self):
         board = Board(3, 2).changed(("row", 0, 0), "|").changed(("column", 2, 0), "|").changed(("row", 1, 1), "-")
